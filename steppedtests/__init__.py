@@ -1,0 +1,1 @@
+"""Steppedtests: the next question by the last answer, decided for all pupils."""

@@ -1,0 +1,97 @@
+"""The names, arguments and places that the interface lists."""
+
+import ast
+import importlib
+import inspect
+import os
+import unittest
+
+ROOT = os.path.dirname(os.path.dirname(os.path.abspath(__file__)))
+PACKAGE = os.path.join(ROOT, "steppedtests")
+
+ERRORS = (
+    "TestError BadEnds BadNode BadStart TwiceAsked NoNode NoPosition BadQuestion BadMarks BadLadder BadCount "
+    "BadRelation BadPositions NoFinal NotReached NoEnd ZeroBottom NoChance BadChance ZeroPolynomial BadInterval "
+    "NoSkip NotComing NoPupils BadLength AlikePupils BadLine Ended BadDeed"
+).split()
+DEFINED = {
+    "errors": ERRORS,
+    "webs": ["Web"],
+    "pupils": ["Pupil"],
+    "walks": ["walk", "run_of", "end_of", "mark_of"],
+}
+SIGNATURES = {
+    ("webs", "Web"): "(nodes, ends, *, start=None)",
+    ("webs", "Web.asked"): "(self, position)",
+    ("webs", "Web.reach"): "(self, position)",
+    ("webs", "Web.reached"): "(self)",
+    ("pupils", "Pupil"): "(questions)",
+    ("pupils", "Pupil.added"): "(self, question)",
+    ("walks", "walk"): "(web, pupil, start=None)",
+    ("walks", "run_of"): "(web, pupil)",
+    ("walks", "end_of"): "(web, pupil, start=None)",
+    ("walks", "mark_of"): "(web, marks, pupil)",
+}
+METHODS = {
+    ("webs", "Web"): ["__len__", "__getitem__", "__contains__", "__eq__", "asked", "reach", "reached"],
+    ("pupils", "Pupil"): ["__le__", "__or__", "__and__", "__sub__", "__contains__", "__len__", "__eq__", "added"],
+}
+
+
+def module(name):
+    return importlib.import_module(f"steppedtests.{name}")
+
+
+def sources():
+    """Pairs of a file's name and its text."""
+    for name in sorted(os.listdir(PACKAGE)):
+        if name != "__pycache__":
+            with open(os.path.join(PACKAGE, name), encoding="utf-8") as file:
+                yield name, file.read()
+
+
+class Interface(unittest.TestCase):
+    def test_each_name_is_defined_in_its_file(self):
+        for name, words in DEFINED.items():
+            with open(os.path.join(PACKAGE, f"{name}.py"), encoding="utf-8") as file:
+                tree = ast.parse(file.read())
+            defined = {row.name for row in tree.body if isinstance(row, (ast.FunctionDef, ast.ClassDef))}
+            with self.subTest(name):
+                self.assertEqual(set(words) - defined, set())
+                self.assertTrue(all(hasattr(module(name), word) for word in words))
+
+    def test_arguments(self):
+        for (name, words), signature in SIGNATURES.items():
+            with self.subTest(words):
+                found = module(name)
+                for word in words.split("."):
+                    found = getattr(found, word)
+                self.assertEqual(str(inspect.signature(found)), signature)
+
+    def test_methods_are_defined_in_the_class_itself(self):
+        for (name, word), methods in METHODS.items():
+            with self.subTest(word):
+                own = vars(getattr(module(name), word))
+                self.assertEqual([method for method in methods if method not in own], [])
+
+
+class Files(unittest.TestCase):
+    """The sizes and characters that the rules L1, L10 and L14 allow."""
+
+    def test_the_package_holds_python_files_only(self):
+        self.assertEqual([name for name, _ in sources() if not name.endswith(".py")], [])
+
+    def test_sizes_and_characters(self):
+        for name, text in sources():
+            with self.subTest(name):
+                lines = text.split("\n")
+                self.assertLessEqual(len(lines), 399)
+                self.assertLessEqual(max(len(line) for line in lines), 120)
+                self.assertTrue(all(char == "\n" or " " <= char <= "~" for char in text))
+                for row in ast.walk(ast.parse(text)):
+                    if isinstance(row, ast.FunctionDef):
+                        self.assertLessEqual(row.end_lineno - row.lineno + 1, 40)
+
+
+if __name__ == "__main__":
+    unittest.main()

@@ -1,0 +1,16 @@
+import doctest
+import os
+import unittest
+
+README = os.path.join(os.path.dirname(os.path.dirname(os.path.abspath(__file__))), "README.md")
+
+
+class Readme(unittest.TestCase):
+    def test_its_examples_hold(self):
+        result = doctest.testfile(README, module_relative=False)
+        self.assertGreater(result.attempted, 0)
+        self.assertEqual(result.failed, 0)
+
+
+if __name__ == "__main__":
+    unittest.main()
