@@ -1,6 +1,7 @@
 """Walks: the ways of pupils through a web, and the marks that they come to."""
 
 from steppedtests.errors import BadMarks, NoPosition
+from steppedtests.pupils import Pupil
 
 
 def walk(web, pupil, start=None):
@@ -49,3 +50,16 @@ def mark_of(web, marks, pupil):
     """The mark of the end of the pupil's walk from the start."""
     check_marks(web, marks)
     return marks[end_of(web, pupil)]
+
+
+def pupil_to(web, position):
+    """A pupil who comes to the position on a shortest way, or None if nobody does."""
+    # Targets have greater numbers, so a node's own way is known when its turn comes.
+    ways = {web.start: (0, ())}
+    for k in web.reached():
+        question, right, wrong = web[k][:3]
+        length, rights = ways[k]
+        for target, found in ((right, rights + (question,)), (wrong, rights)):
+            if target not in ways or length + 1 < ways[target][0]:
+                ways[target] = (length + 1, found)
+    return Pupil(ways[position][1]) if position in ways else None

@@ -19,6 +19,10 @@ DEFINED = {
     "webs": ["Web"],
     "pupils": ["Pupil"],
     "walks": ["walk", "run_of", "end_of", "mark_of"],
+    "ladders": ["Ladder", "ladder_run", "build"],
+    "joint": ["Joint"],
+    "papers": ["covers", "accepts"],
+    "harms": ["Answer", "splits", "harmless", "harm", "greatest_fall", "greatest_rise", "widest_fall"],
 }
 SIGNATURES = {
     ("webs", "Web"): "(nodes, ends, *, start=None)",
@@ -31,10 +35,32 @@ SIGNATURES = {
     ("walks", "run_of"): "(web, pupil)",
     ("walks", "end_of"): "(web, pupil, start=None)",
     ("walks", "mark_of"): "(web, marks, pupil)",
+    ("ladders", "Ladder"): "(*, levels=3, begin=2, up=1, down=1, count=4, most_wrongs=0)",
+    ("ladders", "Ladder.changed"): "(self, **words)",
+    ("ladders", "ladder_run"): "(ladder, pupil)",
+    ("ladders", "build"): "(ladder)",
+    ("joint", "Joint"): "(webs, starts, *, relation='same')",
+    ("joint", "Joint.turn"): "(self, state)",
+    ("joint", "Joint.steps"): "(self, state)",
+    ("joint", "Joint.states"): "(self)",
+    ("joint", "Joint.finals"): "(self)",
+    ("joint", "Joint.trail"): "(self, ends)",
+    ("papers", "covers"): "(state, other)",
+    ("papers", "accepts"): "(joint, paper, allowed)",
+    ("harms", "Answer"): "(found, witness, paper)",
+    ("harms", "splits"): "(web)",
+    ("harms", "harmless"): "(marks)",
+    ("harms", "harm"): "(web, marks)",
+    ("harms", "greatest_fall"): "(web, marks)",
+    ("harms", "greatest_rise"): "(web, marks)",
+    ("harms", "widest_fall"): "(web, marks)",
 }
 METHODS = {
     ("webs", "Web"): ["__len__", "__getitem__", "__contains__", "__eq__", "asked", "reach", "reached"],
     ("pupils", "Pupil"): ["__le__", "__or__", "__and__", "__sub__", "__contains__", "__len__", "__eq__", "added"],
+    ("ladders", "Ladder"): ["__eq__", "changed"],
+    ("joint", "Joint"): ["turn", "steps", "states", "finals", "trail"],
+    ("harms", "Answer"): ["__bool__"],
 }
 
 
