@@ -23,6 +23,10 @@ DEFINED = {
     "joint": ["Joint"],
     "papers": ["covers", "accepts"],
     "harms": ["Answer", "splits", "harmless", "harm", "greatest_fall", "greatest_rise", "widest_fall"],
+    "comparing": ["alike", "widest_difference", "matters", "without"],
+    "scales": ["arrows", "rests", "is_fair", "fullest_scale", "parting_scale", "ring", "ring_holds"],
+    "ratios": ["Ratio"],
+    "chances": ["mean", "mean_length", "slope", "corner"],
 }
 SIGNATURES = {
     ("webs", "Web"): "(nodes, ends, *, start=None)",
@@ -54,6 +58,23 @@ SIGNATURES = {
     ("harms", "greatest_fall"): "(web, marks)",
     ("harms", "greatest_rise"): "(web, marks)",
     ("harms", "widest_fall"): "(web, marks)",
+    ("comparing", "alike"): "(first, marks, second, others)",
+    ("comparing", "widest_difference"): "(first, marks, second, others)",
+    ("comparing", "matters"): "(web, marks, node)",
+    ("comparing", "without"): "(web, node)",
+    ("scales", "arrows"): "(web)",
+    ("scales", "rests"): "(web)",
+    ("scales", "is_fair"): "(web, marks)",
+    ("scales", "fullest_scale"): "(web)",
+    ("scales", "parting_scale"): "(web, e, f)",
+    ("scales", "ring"): "(web, e, f)",
+    ("scales", "ring_holds"): "(web, ring)",
+    ("ratios", "Ratio"): "(top, bottom=1)",
+    ("ratios", "Ratio.over"): "(self, other)",
+    ("chances", "mean"): "(web, marks, chances)",
+    ("chances", "mean_length"): "(web, chances)",
+    ("chances", "slope"): "(web, marks, chances, question)",
+    ("chances", "corner"): "(web, pupil)",
 }
 METHODS = {
     ("webs", "Web"): ["__len__", "__getitem__", "__contains__", "__eq__", "asked", "reach", "reached"],
@@ -61,6 +82,8 @@ METHODS = {
     ("ladders", "Ladder"): ["__eq__", "changed"],
     ("joint", "Joint"): ["turn", "steps", "states", "finals", "trail"],
     ("harms", "Answer"): ["__bool__"],
+    ("ratios", "Ratio"): ["__add__", "__sub__", "__mul__", "__neg__", "__eq__", "__lt__", "__le__", "__gt__", "__ge__",
+                          "__bool__", "__str__", "over"],
 }
 
 
