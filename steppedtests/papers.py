@@ -14,20 +14,21 @@ def accepts(joint, paper, allowed):
     if not _is_paper(joint.webs, paper):
         return False
     permitted = {tuple(ends): True for ends in allowed}
-    due = [(start, ()) for start in joint.starts]
-    for state in paper:
+    written = {state: True for state in paper}
+    due = {(start, ()): True for start in joint.starts}
+    for state in written:
         if joint.turn(state) is None and ends_of(state) not in permitted:
             return False
-        due.extend([found for _, found in joint.steps(state)])
-    return _covers_all(paper, due)
+        for _, found in joint.steps(state):
+            due[found] = True
+    return _covers_all(written, due)
 
 
-def _covers_all(paper, due):
-    """True if each of the due states is covered by a state of the paper."""
-    written = {state: True for state in paper}
-    bits = _bits_of_entries(paper)
+def _covers_all(written, due):
+    """True if each of the due states is covered by a written one. Both are dicts of True."""
+    bits = _bits_of_entries(written)
     masks = {}
-    for positions, memory in paper:
+    for positions, memory in written:
         masks.setdefault(positions, []).append(_mask_of(memory, bits))
     for state in due:
         # Most states cover themselves; only the others are compared one by one.
@@ -36,10 +37,10 @@ def _covers_all(paper, due):
     return True
 
 
-def _bits_of_entries(paper):
-    """A bit for each entry in the paper, so that memories are compared as numbers."""
+def _bits_of_entries(written):
+    """A bit for each entry in these states, so that memories are compared as numbers."""
     bits = {}
-    for _, memory in paper:
+    for _, memory in written:
         for entry in memory:
             if entry not in bits:
                 bits[entry] = 1 << len(bits)
@@ -47,7 +48,7 @@ def _bits_of_entries(paper):
 
 
 def _mask_of(memory, bits):
-    """The bits of the entries of a memory. An entry that is not in the paper has none."""
+    """The bits of the entries of a memory. An entry that is not written has none."""
     return sum([bits.get(entry, 0) for entry in memory])
 
 
