@@ -2,6 +2,7 @@
 
 from steppedtests.joint import ends_of, have_place
 from steppedtests.pupils import is_question
+from steppedtests.shapes import are_numbers, ascends, is_number, is_pair
 
 
 def covers(state, other):
@@ -60,16 +61,6 @@ def _is_covered(mask, covering):
     return False
 
 
-def _is_number(value):
-    """True if the value is an integer; True and False are none here."""
-    return isinstance(value, int) and not isinstance(value, bool)
-
-
-def _are_numbers(value):
-    """True if the value is a tuple of integers."""
-    return isinstance(value, tuple) and all([_is_number(part) for part in value])
-
-
 def _is_paper(webs, paper):
     """True if the paper has the shape of a tuple of states of walkers in these webs."""
     return isinstance(paper, tuple) and all([_is_state(webs, state) for state in paper])
@@ -77,10 +68,10 @@ def _is_paper(webs, paper):
 
 def _is_state(webs, state):
     """True if the value has the shape of a state."""
-    if not isinstance(state, tuple) or len(state) != 2:
+    if not is_pair(state):
         return False
     positions, memory = state
-    if not _are_numbers(positions) or not have_place(webs, positions):
+    if not are_numbers(positions) or not have_place(webs, positions):
         return False
     return _is_memory(memory, len(webs))
 
@@ -89,15 +80,14 @@ def _is_memory(memory, walkers):
     """True if the value has the shape of a memory of so many walkers."""
     if not isinstance(memory, tuple) or not all([_is_entry(entry, walkers) for entry in memory]):
         return False
-    questions = [entry[0] for entry in memory]
-    return all([first < second for first, second in zip(questions, questions[1:])])
+    return ascends([entry[0] for entry in memory])
 
 
 def _is_entry(entry, walkers):
     """True if the value has the shape of an entry with an answer for each walker."""
-    if not isinstance(entry, tuple) or len(entry) != 2:
+    if not is_pair(entry):
         return False
     question, answers = entry
-    if not _is_number(question) or not is_question(question):
+    if not is_number(question) or not is_question(question):
         return False
-    return _are_numbers(answers) and len(answers) == walkers and all([-1 <= answer <= 1 for answer in answers])
+    return are_numbers(answers) and len(answers) == walkers and all([-1 <= answer <= 1 for answer in answers])

@@ -16,7 +16,7 @@ class Ratio:
         self.bottom = bottom // shared
 
     def __add__(self, other):
-        more = _ratio_of(other)
+        more = ratio_of(other)
         return Ratio(self.top * more.bottom + more.top * self.bottom, self.bottom * more.bottom)
 
     def __radd__(self, other):
@@ -26,13 +26,13 @@ class Ratio:
         return Ratio(-self.top, self.bottom)
 
     def __sub__(self, other):
-        return self + -_ratio_of(other)
+        return self + -ratio_of(other)
 
     def __rsub__(self, other):
         return -self + other
 
     def __mul__(self, other):
-        factor = _ratio_of(other)
+        factor = ratio_of(other)
         return Ratio(self.top * factor.top, self.bottom * factor.bottom)
 
     def __rmul__(self, other):
@@ -40,7 +40,7 @@ class Ratio:
 
     def over(self, other):
         """The quotient by a ratio or an integer."""
-        divisor = _ratio_of(other)
+        divisor = ratio_of(other)
         return Ratio(self.top * divisor.bottom, self.bottom * divisor.top)
 
     def __eq__(self, other):
@@ -69,6 +69,6 @@ class Ratio:
         return f"{self.top}/{self.bottom}"
 
 
-def _ratio_of(value):
+def ratio_of(value):
     """The ratio or the integer as a ratio."""
     return value if isinstance(value, Ratio) else Ratio(value)

@@ -4,8 +4,10 @@ import itertools
 import random
 import signal
 from contextlib import contextmanager
+from fractions import Fraction
 
 from steppedtests.joint import Joint
+from steppedtests.ratios import Ratio
 from steppedtests.webs import Web
 
 
@@ -268,3 +270,43 @@ def random_state(chance, joint):
     questions = sorted(chance.sample(range(6), chance.randrange(5)))
     answers = [tuple(chance.choice((-1, 0, 1)) for _ in joint.webs) for _ in questions]
     return positions, tuple(zip(questions, answers))
+
+
+def fraction_of(ratio):
+    return Fraction(ratio.top, ratio.bottom)
+
+
+def ratio_of_fraction(value):
+    return Ratio(value.numerator, value.denominator)
+
+
+def ratios_of(fractions):
+    return {question: ratio_of_fraction(value) for question, value in fractions.items()}
+
+
+def random_chances(chance, questions, most=12):
+    """A chance for each question; some are 0 or 1."""
+    found = {}
+    for question in questions:
+        bottom = chance.randrange(1, most)
+        found[question] = Fraction(chance.randrange(bottom + 1), bottom)
+    return found
+
+
+def weighed(web, fractions, value):
+    """The mean of the value of all pupils' rights, each weighed by its chance."""
+    total = Fraction(0)
+    for rights in subsets(fractions):
+        weight = Fraction(1)
+        for question, part in fractions.items():
+            weight *= part if question in rights else 1 - part
+        total += weight * value(rights)
+    return total
+
+
+def mean_by_pupils(web, marks, fractions):
+    return weighed(web, fractions, lambda rights: marks[end_by_words(web, rights)])
+
+
+def length_by_pupils(web, fractions):
+    return weighed(web, fractions, lambda rights: len(steps_of(web.nodes, rights, web.start)[0]))

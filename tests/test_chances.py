@@ -3,8 +3,8 @@ import random
 import unittest
 from fractions import Fraction
 
-from helpers import (all_questions, at_once, end_by_words, layered, random_marks, small_grids, small_webs, steps_of,
-                     subsets, with_skips)
+from helpers import (all_questions, at_once, fraction_of, layered, length_by_pupils, mean_by_pupils, random_chances,
+                     random_marks, ratios_of, small_grids, small_webs, subsets, with_skips)
 from steppedtests.chances import corner, mean, mean_length, slope
 from steppedtests.errors import BadChance, BadMarks, BadQuestion, NoChance
 from steppedtests.harms import harm
@@ -16,42 +16,6 @@ from steppedtests.webs import Web
 WEB = Web([(1, 1, 2), (2, -1, -2), (3, -3, -4)], 4)
 HALF = Ratio(1, 2)
 HALVES = {1: HALF, 2: HALF, 3: HALF}
-
-
-def fraction_of(ratio):
-    return Fraction(ratio.top, ratio.bottom)
-
-
-def ratios_of(fractions):
-    return {question: Ratio(value.numerator, value.denominator) for question, value in fractions.items()}
-
-
-def random_chances(chance, questions, most=12):
-    """A chance for each question; some are 0 or 1."""
-    found = {}
-    for question in questions:
-        bottom = chance.randrange(1, most)
-        found[question] = Fraction(chance.randrange(bottom + 1), bottom)
-    return found
-
-
-def weighed(web, fractions, value):
-    """The mean of the value of all pupils' rights, each weighed by its chance."""
-    total = Fraction(0)
-    for rights in subsets(fractions):
-        weight = Fraction(1)
-        for question, part in fractions.items():
-            weight *= part if question in rights else 1 - part
-        total += weight * value(rights)
-    return total
-
-
-def mean_by_pupils(web, marks, fractions):
-    return weighed(web, fractions, lambda rights: marks[end_by_words(web, rights)])
-
-
-def length_by_pupils(web, fractions):
-    return weighed(web, fractions, lambda rights: len(steps_of(web.nodes, rights, web.start)[0]))
 
 
 def cases(seed, number):

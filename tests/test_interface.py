@@ -27,6 +27,10 @@ DEFINED = {
     "scales": ["arrows", "rests", "is_fair", "fullest_scale", "parting_scale", "ring", "ring_holds"],
     "ratios": ["Ratio"],
     "chances": ["mean", "mean_length", "slope", "corner"],
+    "polynomials": ["Polynomial", "count_roots", "negative_at"],
+    "lines": ["line_mean", "falls_along"],
+    "guesses": ["guess", "guesses"],
+    "classes": ["depth", "tells", "least_questions", "bound_holds"],
 }
 SIGNATURES = {
     ("webs", "Web"): "(nodes, ends, *, start=None)",
@@ -75,6 +79,18 @@ SIGNATURES = {
     ("chances", "mean_length"): "(web, chances)",
     ("chances", "slope"): "(web, marks, chances, question)",
     ("chances", "corner"): "(web, pupil)",
+    ("polynomials", "Polynomial"): "(parts)",
+    ("polynomials", "Polynomial.derivative"): "(self)",
+    ("polynomials", "count_roots"): "(p, low, high)",
+    ("polynomials", "negative_at"): "(p, low, high)",
+    ("lines", "line_mean"): "(web, marks, first, second)",
+    ("lines", "falls_along"): "(web, marks, first, second)",
+    ("guesses", "guess"): "(web, marks, node, pupil)",
+    ("guesses", "guesses"): "(web, marks, node)",
+    ("classes", "depth"): "(tree)",
+    ("classes", "tells"): "(pupils, classes, questions, tree)",
+    ("classes", "least_questions"): "(pupils, classes, questions)",
+    ("classes", "bound_holds"): "(pupils, classes, questions, table, n)",
 }
 METHODS = {
     ("webs", "Web"): ["__len__", "__getitem__", "__contains__", "__eq__", "asked", "reach", "reached"],
@@ -84,6 +100,8 @@ METHODS = {
     ("harms", "Answer"): ["__bool__"],
     ("ratios", "Ratio"): ["__add__", "__sub__", "__mul__", "__neg__", "__eq__", "__lt__", "__le__", "__gt__", "__ge__",
                           "__bool__", "__str__", "over"],
+    ("polynomials", "Polynomial"): ["__add__", "__sub__", "__mul__", "__neg__", "__eq__", "__call__", "__len__",
+                                    "derivative"],
 }
 
 
