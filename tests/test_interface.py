@@ -31,6 +31,10 @@ DEFINED = {
     "lines": ["line_mean", "falls_along"],
     "guesses": ["guess", "guesses"],
     "classes": ["depth", "tells", "least_questions", "bound_holds"],
+    "toldback": ["fitting"],
+    "texts": ["write_web", "read_web", "write_run", "read_run"],
+    "sitting": ["Sitting", "run_deeds", "preview"],
+    "console": ["console"],
 }
 SIGNATURES = {
     ("webs", "Web"): "(nodes, ends, *, start=None)",
@@ -91,6 +95,20 @@ SIGNATURES = {
     ("classes", "tells"): "(pupils, classes, questions, tree)",
     ("classes", "least_questions"): "(pupils, classes, questions)",
     ("classes", "bound_holds"): "(pupils, classes, questions, table, n)",
+    ("toldback", "fitting"): "(runs, *, levels, count)",
+    ("texts", "write_web"): "(web)",
+    ("texts", "read_web"): "(text)",
+    ("texts", "write_run"): "(run)",
+    ("texts", "read_run"): "(text)",
+    ("sitting", "Sitting"): "(web, marks)",
+    ("sitting", "Sitting.answer"): "(self, right)",
+    ("sitting", "Sitting.skip"): "(self)",
+    ("sitting", "Sitting.undo"): "(self)",
+    ("sitting", "Sitting.left"): "(self)",
+    ("sitting", "Sitting.mark_by"): "(self, marks)",
+    ("sitting", "run_deeds"): "(sitting, deeds)",
+    ("sitting", "preview"): "(sitting, deeds)",
+    ("console", "console"): "(lines)",
 }
 METHODS = {
     ("webs", "Web"): ["__len__", "__getitem__", "__contains__", "__eq__", "asked", "reach", "reached"],
@@ -102,6 +120,8 @@ METHODS = {
                           "__bool__", "__str__", "over"],
     ("polynomials", "Polynomial"): ["__add__", "__sub__", "__mul__", "__neg__", "__eq__", "__call__", "__len__",
                                     "derivative"],
+    ("sitting", "Sitting"): ["position", "question", "run", "mark", "marks", "answer", "skip", "undo", "left",
+                             "mark_by"],
 }
 
 
