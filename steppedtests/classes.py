@@ -161,8 +161,6 @@ def _is_good(roster, numbers, group, number):
     """True if the group needs so many questions, provided that the numbers of its parts hold."""
     if not roster.is_mixed(group):
         return False
-    if number == 1:
-        return True
     for _, right, wrong in roster.partings(group):
         if numbers.get(right, 0) < number - 1 and numbers.get(wrong, 0) < number - 1:
             return False

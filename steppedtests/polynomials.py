@@ -15,18 +15,9 @@ class Polynomial:
             found.pop()
         self.parts = tuple(found)
 
-    def _part(self, k):
-        """The part of the power k, which may be above the highest one."""
-        return self.parts[k] if k < len(self.parts) else Ratio(0)
-
-    def _product_part(self, other, k):
-        """The part of the power k of the product."""
-        first = range(len(self.parts))
-        return sum([self.parts[i] * other.parts[k - i] for i in first if 0 <= k - i < len(other.parts)])
-
     def __add__(self, other):
         count = max(len(self.parts), len(other.parts))
-        return Polynomial([self._part(k) + other._part(k) for k in range(count)])
+        return Polynomial([_part_of(self.parts, k) + _part_of(other.parts, k) for k in range(count)])
 
     def __neg__(self):
         return Polynomial([-part for part in self.parts])
@@ -36,7 +27,7 @@ class Polynomial:
 
     def __mul__(self, other):
         count = len(self.parts) + len(other.parts)
-        return Polynomial([self._product_part(other, k) for k in range(count)])
+        return Polynomial([_part_of_product(self.parts, other.parts, k) for k in range(count)])
 
     def __eq__(self, other):
         return isinstance(other, Polynomial) and self.parts == other.parts
@@ -53,6 +44,16 @@ class Polynomial:
     def derivative(self):
         """The polynomial of the slopes."""
         return Polynomial([part * k for k, part in enumerate(self.parts)][1:])
+
+
+def _part_of(parts, k):
+    """The part of the power k, which may be above the highest one."""
+    return parts[k] if k < len(parts) else Ratio(0)
+
+
+def _part_of_product(first, second, k):
+    """The part of the power k of the product of polynomials with these parts."""
+    return sum([part * second[k - i] for i, part in enumerate(first) if 0 <= k - i < len(second)])
 
 
 # Below, a polynomial is a list of integers, from the constant upwards, without 0 at

@@ -77,7 +77,7 @@ class Sitting:
         """Take back the last answer or skip; False if there is none."""
         if not self._steps:
             return False
-        self._place, _ = self._steps.pop()
+        self._place = self._steps.pop()[0]
         return True
 
     def left(self):
