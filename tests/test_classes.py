@@ -375,6 +375,17 @@ class Bounds(unittest.TestCase):
             self.assertIs(self.holds(tuple(table), 0), wanted)
         self.assertIs(self.holds((((0, 1, 2, 3), 3), *TABLE[1:]), 3), False)
 
+    def test_groups_that_are_exchanged(self):
+        answers = set()
+        for first, second in itertools.combinations(range(len(TABLE)), 2):
+            table = list(TABLE)
+            table[first], table[second] = (TABLE[second][0], TABLE[first][1]), (TABLE[first][0], TABLE[second][1])
+            for n in range(4):
+                wanted = holds_by_words(PUPILS, CLASSES, QUESTIONS, table, n)
+                self.assertIs(self.holds(tuple(table), n), wanted)
+                answers.add((n, wanted))
+        self.assertLessEqual({(0, True), (0, False), (2, True), (2, False), (3, False)}, answers)
+
     def test_groups_that_no_question_parts(self):
         # Without questions no tree tells pupils of two classes, so every number is right.
         self.assertIs(self.holds((((0, 1, 2, 3), 10 ** 9),), 10 ** 9, questions=()), True)
